@@ -1,0 +1,1 @@
+"""Everytarget: facts moved between schemas, and what is certain."""
