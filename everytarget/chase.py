@@ -119,13 +119,12 @@ class Chase:
         found = []
         for number, rule in enumerate(self._rules):
             names = variables_of(rule[1])
+            # Ascending facts of the atoms are ascending values of their variables, too: no sorting is needed.
             for binding, _ in matches(rule[1], facts_for(rule[1], rows), {}):
                 values = tuple([binding[name] for name in names])
                 if self._is_open(number, values):
-                    # The texts have the order of the tuples, and may be compared however deep these are.
-                    texts = [text_of(value) for value in values]
-                    found.append(((number, texts), (number, values)))
-        return [step for _, step in sorted(found, key=lambda row: row[0])]
+                    found.append((number, values))
+        return found
 
     def _is_open(self, number, values):
         """True if the step of a rule and a match of its body changes something."""

@@ -452,7 +452,7 @@ class Large(Case):
         classes = built([z(name) for name in names], [(names[at], names[at // 2]) for at in range(1, 3000)])
         self.assertEqual(classes.count(), 2)
         self.assertEqual(classes.name(z(names[2999])), z(("?0",)))
-        self.assertLess(time.process_time() - begin, 2)
+        self.assertLess(time.process_time() - begin, 5)
 
     def test_what_is_passed_is_not_changed(self):
         values = [w(z(X), Y), X, A, z(A)]

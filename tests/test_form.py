@@ -4,6 +4,27 @@ import ast
 import pathlib
 import unittest
 
+# What the document's interface lists: for each file its functions, and its classes with their methods.
+INTERFACE = {
+    "errors": {"TargetError": {}, "NotValid": {}, "BadText": {"__init__": "line place"}},
+    "values": {
+        "is_value": "value", "is_constant": "value", "depth": "value", "value_key": "value",
+        "is_book": "facts relations", "variables_of": "atoms", "frontier": "rule", "made_variables": "rule",
+        "made": "rule variable values", "fact_of": "atom binding", "is_program": "value",
+        "is_question": "value program"},
+    "matches": {"matches": "atoms facts start", "has_match": "atoms facts start"},
+    "classes": {"Classes": {
+        "__init__": "", "add": "value", "join_values": "one other", "same": "one other", "root": "value",
+        "name": "value", "clash": "", "count": ""}},
+    "chase": {
+        "Chase": {
+            "__init__": "program source known", "open_steps": "", "make": "index", "run": "", "has_ended": "",
+            "outcome": "", "lines": "", "classes": ""},
+        "chased": "program source known"},
+    "papers": {
+        "judge_answer": "program source known question answer paper", "judge_clash": "program source known paper",
+        "answer_paper": "program source known question answer", "clash_paper": "program source known"},
+}
 ROOT = pathlib.Path(__file__).resolve().parent.parent
 PACKAGE = ROOT / "everytarget"
 BUILTINS = (
@@ -116,6 +137,36 @@ class Form(unittest.TestCase):
                 else:
                     self.assertTrue(isinstance(node, ast.Expr) and isinstance(node.value, ast.Constant), path)
             self.assertEqual(len(bound), len(set(bound)), path)
+
+    def test_the_interface_is_defined_in_its_files(self):
+        for module, listed in INTERFACE.items():
+            tree = ast.parse((PACKAGE / (module + ".py")).read_text(encoding="ascii"))
+            defined = {node.name: node for node in tree.body if isinstance(node, (ast.FunctionDef, ast.ClassDef))}
+            for name, told in listed.items():
+                if isinstance(told, str):
+                    self.assert_parameters(defined[name], told.split())
+                else:
+                    methods = {node.name: node for node in defined[name].body if isinstance(node, ast.FunctionDef)}
+                    for method, parameters in told.items():
+                        self.assert_parameters(methods[method], ["self"] + parameters.split())
+
+    def assert_parameters(self, function, names):
+        told = function.args
+        self.assertEqual([parameter.arg for parameter in told.args], names, function.name)
+        self.assertEqual(
+            (told.posonlyargs, told.kwonlyargs, told.vararg, told.kwarg, told.defaults), ([], [], None, None, []))
+
+    def test_no_two_files_import_from_each_other(self):
+        found = {}
+        for path, tree in trees():
+            found[path.stem] = [
+                node.module.split(".")[1] for node in ast.walk(tree)
+                if isinstance(node, ast.ImportFrom) and node.module.startswith("everytarget.")]
+        done = []
+        while len(done) < len(found):
+            free = [name for name in found if name not in done and all(other in done for other in found[name])]
+            self.assertNotEqual(free, [])
+            done += free
 
 
 if __name__ == "__main__":

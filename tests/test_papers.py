@@ -131,7 +131,7 @@ class GivenAndKnown(Case):
     def test_facts_of_the_books_may_be_told_anywhere(self):
         for line in (("given", p(B)), ("given", e(B, B)), ("known", t(X)), ("known", q(A, X)), ("given", p(A))):
             self.assert_taken(PAPER[:8] + [line] + PAPER[8:])
-            self.assert_taken(PAPER[:4] + PAPER[4:8] + [line, line] + PAPER[8:])
+            self.assert_taken(PAPER[:8] + [line, line] + PAPER[8:])
 
     def test_a_fact_by_an_equal_value_is_not_in_the_book(self):
         self.assert_not_taken(PAPER[:8] + [("known", q(A, C))] + PAPER[8:])
@@ -527,7 +527,7 @@ class RightPapers(Case):
         for line in further:
             self.assert_taken(PAPER[:8] + [line] + PAPER[8:])
         self.assert_taken(PAPER[:8] + further + PAPER[8:])
-        self.assertIs(judge_clash(*CLASH, CLASH_PAPER[:6] * 1 + [("given", p(A))] + CLASH_PAPER[6:]), True)
+        self.assertIs(judge_clash(*CLASH, CLASH_PAPER[:6] + [("given", p(A))] + CLASH_PAPER[6:]), True)
 
     def test_lines_in_another_order(self):
         paper = [PAPER[1], PAPER[3], PAPER[0], PAPER[2]] + [
