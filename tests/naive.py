@@ -232,3 +232,51 @@ def answers(question, book):
         for binding in bindings(body, set(book), {}):
             out.add(fact_by(("", slots), binding)[1])
     return out
+
+
+def some_free_program(chance):
+    """A program with any rules: its chase may go on for ever."""
+    rules = []
+    for _ in range(chance.randint(1, 4)):
+        side = chance.choice([SOURCE, TARGET, TARGET])
+        body = some_atoms(chance, side, ["x", "y", "v"], chance.choice([1, 1, 2]))
+        inside = variables(body)
+        if side is TARGET and len(inside) > 1 and chance.randint(0, 3) == 0:
+            rules.append(("same", body, inside[0], chance.choice(inside)))
+        else:
+            names = chance.choice([["x", "y", "z", "w"], ["x", "y"], ["v", "x", "z"], ["z", "w"], ["x", "z"]])
+            rules.append(("make", body, some_atoms(chance, TARGET, names, chance.choice([1, 1, 2]))))
+    return {"source": dict(SOURCE), "target": dict(TARGET), "rules": tuple(rules)}
+
+
+def places(name, atoms):
+    return {(relation, at) for relation, slots in atoms for at, slot in enumerate(slots) if slot == name}
+
+
+def all_arcs(program):
+    """The arcs of point [30], ascending, by trying all pairs of positions."""
+    every = [(name, at) for side in ("source", "target") for name in program[side] for at in range(program[side][name])]
+    out = set()
+    for begin, end in itertools.product(every, repeat=2):
+        for rule in program["rules"]:
+            if rule[0] == "make":
+                body, head = variables(rule[1]), variables(rule[2])
+                shared = [name for name in body if name in head]
+                if any(begin in places(name, rule[1]) and end in places(name, rule[2]) for name in shared):
+                    out.add(("plain", begin, end))
+                begins = any(begin in places(name, rule[1]) for name in shared)
+                if begins and any(end in places(name, rule[2]) for name in head if name not in body):
+                    out.add(("making", begin, end))
+    return sorted(out)
+
+
+def has_ring(program):
+    """True if from the end of some making arc its beginning is reached, by the closure of the arcs."""
+    links = all_arcs(program)
+    reached = {(begin, end) for _, begin, end in links}
+    grown = True
+    while grown:
+        more = {(one, last) for one, begin in reached for end, last in reached if begin == end}
+        grown = not more <= reached
+        reached |= more
+    return any(begin == end or (end, begin) in reached for kind, begin, end in links if kind == "making")

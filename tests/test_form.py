@@ -24,6 +24,11 @@ INTERFACE = {
     "papers": {
         "judge_answer": "program source known question answer paper", "judge_clash": "program source known paper",
         "answer_paper": "program source known question answer", "clash_paper": "program source known"},
+    "targets": {"first_fault": "program source book", "is_target": "program source book"},
+    "texts": {"parse": "text", "parse_question": "text", "print_program": "program", "print_question": "question"},
+    "ends": {
+        "positions": "program", "arcs": "program", "ranks": "program", "ring": "program", "judge_ranks": "program ranks",
+        "judge_ring": "program ring", "greatest_rank": "program", "most_values": "program constants"},
 }
 ROOT = pathlib.Path(__file__).resolve().parent.parent
 PACKAGE = ROOT / "everytarget"
