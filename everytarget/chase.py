@@ -4,7 +4,7 @@ from everytarget.classes import Classes
 from everytarget.errors import NotValid
 from everytarget.matches import matches
 from everytarget.steps import facts_of_atoms, facts_of_head, sides
-from everytarget.values import text_of, variables_of
+from everytarget.values import book_of, variables_of
 
 
 def facts_for(atoms, rows):
@@ -66,8 +66,7 @@ class Chase:
             raise NotValid()
         if self._classes.clash():
             return ("clash", ())
-        facts = [fact for fact in self._named_facts() if fact[0] in self._target]
-        return ("target", tuple(sorted(facts, key=text_of)))
+        return ("target", book_of([fact for fact in self._named_facts() if fact[0] in self._target]))
 
     def lines(self):
         """The lines of a paper of everything that was done."""

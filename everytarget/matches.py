@@ -82,8 +82,13 @@ def matches(atoms, facts, start):
     return found
 
 
+def first_match(atoms, facts, start):
+    """The binding of the first match that extends start, or None if there is none."""
+    for chosen in matching_facts(atoms, facts, start):
+        return binding_of(atoms, chosen, start)
+    return None
+
+
 def has_match(atoms, facts, start):
     """True if there is a match that extends start."""
-    for _ in matching_facts(atoms, facts, start):
-        return True
-    return False
+    return first_match(atoms, facts, start) is not None

@@ -4,7 +4,7 @@ from everytarget.chase import Chase
 from everytarget.classes import Classes
 from everytarget.matches import matches
 from everytarget.steps import facts_of_atoms, facts_of_head, sides
-from everytarget.values import is_constant, is_fact, is_value, text_of, variables_of
+from everytarget.values import is_constant, is_fact, is_value, text_of, texts_of, values_of_slots, variables_of
 
 
 def is_number_below(value, limit):
@@ -29,11 +29,6 @@ def is_line(value, kind, many):
     if not isinstance(value, tuple) or len(value) != many:
         return False
     return isinstance(value[0], str) and value[0] == kind
-
-
-def texts_of(book):
-    """A dict that has the texts of the book's facts as its keys."""
-    return {text_of(fact): True for fact in book}
 
 
 class Judge:
@@ -62,8 +57,7 @@ class Judge:
         if len(slots) != len(answer) or not self._fits(body, line[2], line[3]):
             return False
         binding = dict(zip(variables_of(body), line[2]))
-        values = [binding[slot] if isinstance(slot, str) else slot for slot in slots]
-        return self._are_same(values, answer)
+        return self._are_same(values_of_slots(slots, binding), answer)
 
     def takes_clash(self, line):
         """True if this is a right last line of a paper for a clash."""

@@ -135,6 +135,17 @@ def is_book(facts, relations):
     return all(texts[at] < texts[at + 1] for at in range(len(texts) - 1))
 
 
+def texts_of(book):
+    """A dict that has the texts of the book's facts as its keys."""
+    return {text_of(fact): True for fact in book}
+
+
+def book_of(facts):
+    """The book of these facts."""
+    by_text = {text_of(fact): fact for fact in facts}
+    return tuple([by_text[text] for text in sorted(by_text)])
+
+
 def is_slot(value):
     """True if this is a variable or a constant."""
     return is_variable(value) or is_constant(value)
@@ -188,10 +199,15 @@ def made_variables(rule):
     return tuple([name for name in variables_of(head) if name not in inside])
 
 
+def values_of_slots(slots, binding):
+    """The tuple of the slots in which each variable is replaced by its value."""
+    return tuple([binding[slot] if isinstance(slot, str) else slot for slot in slots])
+
+
 def fact_of(atom, binding):
     """The fact of an atom in which each variable is replaced by its value."""
     relation, slots = atom
-    return (relation, tuple([binding[slot] if isinstance(slot, str) else slot for slot in slots]))
+    return (relation, values_of_slots(slots, binding))
 
 
 def is_number_of_places(value):

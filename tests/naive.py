@@ -280,3 +280,85 @@ def has_ring(program):
         grown = not more <= reached
         reached |= more
     return any(begin == end or (end, begin) in reached for kind, begin, end in links if kind == "making")
+
+
+def values_of(book):
+    return sorted({value for _, values in book for value in values})
+
+
+def is_map(book, other, image):
+    """True if this dict from the values of the book is a map into the other one."""
+    if any(is_constant(value) and image[value] != value for value in image):
+        return False
+    return all((relation, tuple([image[value] for value in values])) in other for relation, values in book)
+
+
+def first_map(book, other):
+    """The first map of point [41], by trying all images of all facts in their order."""
+    choices = [[fact for fact in other if fact[0] == relation] for relation, _ in book]
+    for rows in itertools.product(*choices):
+        image = {}
+        pairs = [pair for fact, row in zip(book, rows) for pair in zip(fact[1], row[1])]
+        if all(image.setdefault(value, told) == told for value, told in pairs) and is_map(book, other, image):
+            return image
+    return None
+
+
+def first_fold(book):
+    for fact in book:
+        if not all(map(is_constant, fact[1])):
+            image = first_map(book, tuple([other for other in book if other != fact]))
+            if image is not None:
+                return image
+    return None
+
+
+def are_alike(one, other):
+    """True if some exchange of the unknowns makes one book the other, by trying all of them."""
+    unknowns = [value for value in values_of(one) if not is_constant(value)]
+    others = [value for value in values_of(other) if not is_constant(value)]
+    if len(unknowns) != len(others):
+        return False
+    for choice in itertools.permutations(others):
+        image = {value: value for value in values_of(one)}
+        image.update(zip(unknowns, choice))
+        facts = [(relation, tuple([image[value] for value in values])) for relation, values in one]
+        if sorted(facts) == list(other):
+            return True
+    return False
+
+
+def parted_source(source):
+    """The facts in groups that share constants, by joining groups again and again."""
+    groups = [{fact} for fact in source]
+    joined = True
+    while joined:
+        joined = False
+        for one, other in itertools.combinations(groups, 2):
+            if {value for fact in one for value in fact[1]} & {value for fact in other for value in fact[1]}:
+                groups = [group for group in groups if group not in (one, other)] + [one | other]
+                joined = True
+                break
+    return sorted([tuple(sorted(group)) for group in groups])
+
+
+def into(program, book, other):
+    """The map of point [38], or None, by trying all bindings of heads."""
+    images = {}
+
+    def image_of(value):
+        if is_constant(value):
+            return value
+        label, values = value
+        number, name = label.split(".")
+        _, body, head = program["rules"][int(number)]
+        shared = [name for name in variables(body) if name in variables(head)]
+        start = {name: image_of(part) for name, part in zip(shared, values)}
+        found = [([fact_by(atom, binding) for atom in head], binding[name]) for binding in bindings(head, set(other), start)]
+        return min(found)[1]
+
+    try:
+        images = {value: image_of(value) for value in values_of(book)}
+    except ValueError:
+        return None
+    return images if is_map(book, other, images) else None

@@ -29,6 +29,13 @@ INTERFACE = {
     "ends": {
         "positions": "program", "arcs": "program", "ranks": "program", "ring": "program", "judge_ranks": "program ranks",
         "judge_ring": "program ring", "greatest_rank": "program", "most_values": "program constants"},
+    "questions": {"answers": "question book", "certain": "question book", "is_answer": "question book answer"},
+    "maps": {
+        "values_of": "book", "into": "program book other", "judge_map": "book other image", "image_of": "book image"},
+    "cores": {"find_map": "book other", "fold": "book", "core": "book", "alike": "one other"},
+    "kept": {
+        "parts_in_islands": "program", "islands": "program source",
+        "Keeper": {"__init__": "program", "add": "facts", "take": "facts", "source": "", "outcome": ""}},
 }
 ROOT = pathlib.Path(__file__).resolve().parent.parent
 PACKAGE = ROOT / "everytarget"
