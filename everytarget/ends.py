@@ -56,12 +56,12 @@ def arcs_by_begin(program):
 
 def path_back(last_arcs, begin, end):
     """The arcs from begin to end, found from the last one to the first one."""
-    path = []
+    found = []
     at = end
     while at != begin:
-        path.append(last_arcs[at])
+        found.append(last_arcs[at])
         at = last_arcs[at][1]
-    return path[::-1]
+    return found[::-1]
 
 
 def path(leaving, begin, end):

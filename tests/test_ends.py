@@ -258,6 +258,8 @@ NO_RANKS_AND_NO_RINGS = [
     [("making", None, None)], [("making", 1, 1)], [("making", "b", "b")], [("making", ("b",), ("b",))],
     [(AlwaysEqual(), ("b", 1), ("b", 1))], [("making", AlwaysEqual(), AlwaysEqual())],
     [("making", EqualAndHashed(), EqualAndHashed())], [("making", ("b", AlwaysEqual()), ("b", 1))], [([], ("b", 1), ("b", 1))],
+    [("making", ("b", 1), [])], [("making", [], ("b", 1))], [("making", ("b", 1), ([], 1))],
+    [("making", ({}, 1), ("b", 1))], [("making", ("b", []), ("b", 1))], [("making", ("b", 1), ("b", {}))],
 ]
 
 
